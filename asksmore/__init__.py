@@ -1,0 +1,1 @@
+"""Asksmore: specifications that leave things open, and tests that ask more than they say."""
