@@ -11,6 +11,10 @@ FUNCTIONS = {
     "chains": {"is_chain": "(sentences, first, last, steps)", "is_rows": "(letters, told, rows)",
                "chain": "(closing, history)", "why": "(closing, one, other)", "length": "(closing, steps)",
                "unfolded": "(closing, steps, *, most=1000)"},
+    "sorts": {"struck_words": "(closing, beginning)"},
+    "widened": {"struck_sort": "(closing, sort, beginning)", "is_closed": "(closing, sort, arrows)"},
+    "allowed": {"reaches": "(closing, letter, top)", "witness": "(closing, letter, top)",
+                "allowed": "(closing, limits, top)", "barred": "(closing, limits)", "conflict": "(closing, limits)"},
 }
 
 CLASSES = {
@@ -20,7 +24,27 @@ CLASSES = {
     "sentences": {"Sentence": ("(letters, kind, first, second=None)", ["left", "right", "__eq__", "__str__"]),
                   "Limit": ("(letters, kind, answers, letter=None)", ["__eq__", "__str__"])},
     "closing": {"Closing": (None, ["least", "pair", "is_still", "form"])},
+    "sorts": {"Sort": ("(letters, rows, ends)",
+                       ["states", "step", "is_end", "repeated", "takes", "after", "least", "apart", "growth", "number_of",
+                        "counts_apart", "rank_of", "every", "nothing", "only", "menus", "ending", "__or__", "__and__",
+                        "__sub__", "__invert__", "__add__", "__mul__", "__rmul__", "__eq__", "__contains__",
+                        "__getitem__", "__iter__"])},
+    "widened": {"Widened": ("(closing, domain)", ["least", "word", "reach", "reached", "into"])},
+    "answerers": {"Answerer": ("(closing, tops, special=())", ["__call__", "state", "breaks"])},
 }
+
+METHODS = {("sorts", "Sort", "number_of"): "(self, n, *, modulo=None)",
+           ("sorts", "Sort", "step"): "(self, state, letter)", ("sorts", "Sort", "is_end"): "(self, state)",
+           ("sorts", "Sort", "takes"): "(self, history)", ("sorts", "Sort", "after"): "(self, word)",
+           ("sorts", "Sort", "apart"): "(self, other)", ("sorts", "Sort", "rank_of"): "(self, word)",
+           ("sorts", "Sort", "only"): "(letters, word)", ("sorts", "Sort", "menus"): "(letters, menus)",
+           ("sorts", "Sort", "ending"): "(letters, letter)", ("sorts", "Sort", "every"): "(letters)",
+           ("widened", "Widened", "least"): "(self, start, x, end)",
+           ("widened", "Widened", "word"): "(self, start, x, end)",
+           ("widened", "Widened", "reach"): "(self, beginning, state, top)",
+           ("widened", "Widened", "reached"): "(self, beginning, state, top)",
+           ("widened", "Widened", "into"): "(self, beginning, forms)",
+           ("answerers", "Answerer", "breaks"): "(self, sentence)"}
 
 
 class InterfaceTest(unittest.TestCase):
@@ -42,6 +66,11 @@ class InterfaceTest(unittest.TestCase):
                     self.assertEqual(str(inspect.signature(cls)), signature, name)
                 for method in methods:
                     self.assertIn(method, vars(cls), f"{name}.{method}")
+
+    def test_methods(self):
+        for (module, name, method), signature in METHODS.items():
+            found = getattr(self.found(module, name), method)
+            self.assertEqual(str(inspect.signature(found)), signature, f"{name}.{method}")
 
 
 if __name__ == "__main__":

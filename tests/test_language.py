@@ -25,6 +25,8 @@ LIBRARY = {"heapq": {"heappush", "heappop", "heapify", "heapreplace", "heappushp
 NOT_NAMES = set("""register mro elements open input law version_info with_traceback add_note attrgetter breakpoint
     builtins compile copyright credits delattr dir eval exec exit gc getattr globals hasattr help id importlib license
     locals methodcaller os quit setattr type vars sys""".split())
+NOT_ATTRIBUTES = set("""items keys values pop update append clear extend insert remove reverse setdefault sort args
+    encode decode hex fromhex format format_map mro""".split())
 NOT_WORDS = re.compile(r"\b(type|typing|typing_extensions|enum|Enum|IntEnum|StrEnum|Flag|IntFlag|Generic|Protocol|ABC"
                        r"|ABCMeta|namedtuple|NamedTuple|TypedDict|TYPE_CHECKING|abstractmethod)\b"
                        r"|dataclass|overload|contextmanager|_wall|_WallAttr|Meta|metaclass=")
@@ -167,6 +169,16 @@ class LanguageTest(unittest.TestCase):
                       isinstance(node.ctx, ast.Store)}
             stored |= {node.arg for node in ast.walk(tree) if isinstance(node, ast.arg)}
             self.assertFalse(taken & stored, name)
+
+    def test_no_name_is_a_method_and_an_attribute(self):
+        methods, attributes = set(), set()
+        for _, node in nodes(ast.ClassDef):
+            methods |= {part.name for part in node.body if isinstance(part, ast.FunctionDef)}
+        for _, node in nodes(ast.Attribute):
+            if isinstance(node.ctx, ast.Store):
+                attributes.add(node.attr)
+        self.assertFalse(methods & attributes)
+        self.assertFalse(attributes & NOT_ATTRIBUTES)
 
     def test_words_that_do_not_occur(self):
         for name, text in SOURCES.items():
