@@ -5,7 +5,7 @@ An arrow is a triple of a state, the rank of a live letter or NOTHING, and a sta
 
 from asksmore.plain import is_list_of, is_whole
 from asksmore.tables import determined
-from asksmore.tops import NOTHING, Tops, coded
+from asksmore.tops import NOTHING, Tops, coded, named
 from asksmore.ways import NO_WAY, first_ways, in_turn
 
 
@@ -107,6 +107,11 @@ def struck_table(arrows, beginning):
     reached = tops_reached(arrows, beginning)
     starts = [at for at, (state, top) in enumerate(nodes) if top == NOTHING and (state, top) in reached]
     return determined(starts, steps, [arrows.table.marks[state] for state, top in nodes])
+
+
+def told_arrows(letters, codes):
+    """Arrows, in order, with letters in the place of ranks."""
+    return tuple([(start, named(letters, x), end) for start, x, end in sorted(list(codes))])
 
 
 def read_arrows(tops, states, value):

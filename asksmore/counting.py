@@ -37,7 +37,7 @@ def is_endless(table):
 
 def word_at(table, place):
     """The word with so many words before it, by ranks; None if it has more than 300 letters or is not there."""
-    levels = counts_to(table, 0)
+    levels = list(counts_to(table, 0))
     left = place
     while left >= levels[-1][0]:
         if len(levels) > MOST_RANKED:

@@ -15,6 +15,12 @@ def is_beginning(value):
     return value in BEGINNINGS
 
 
+def require_beginning(value):
+    """Refuse what is not a beginning."""
+    if not is_beginning(value):
+        raise BadBeginning()
+
+
 def require_runs(letters, runs):
     """Refuse a list that does not consist of runs of these letters."""
     for index, run in enumerate(runs):
@@ -46,8 +52,7 @@ class History:
     """A beginning and runs of letters."""
 
     def __init__(self, letters, beginning, runs=()):
-        if not is_beginning(beginning):
-            raise BadBeginning()
+        require_beginning(beginning)
         self.letters = letters
         self.beginning = beginning
         self.runs = runs.runs if isinstance(runs, CheckedRuns) else extended(letters, (), runs)

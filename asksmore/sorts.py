@@ -2,9 +2,9 @@
 
 from asksmore.counting import (MOST_RANKED, first_difference, growth_of, is_endless, number_squared, number_walked,
                                rank_in, word_at)
-from asksmore.errors import (BadBeginning, BadEnd, BadLetter, BadMenu, BadNumber, BadPlace, BadRow, BadState, TooLong,
-                             TooMany, TwiceTold)
-from asksmore.histories import is_beginning
+from asksmore.errors import (BadEnd, BadLetter, BadMenu, BadNumber, BadPlace, BadRow, BadState, TooLong, TooMany,
+                             TwiceTold)
+from asksmore.histories import require_beginning
 from asksmore.letters import require_same
 from asksmore.plain import is_list_of, is_whole
 from asksmore.tables import (Table, first_word, in_succession, is_at_end, leap, one_form, over_and_over, paired,
@@ -297,7 +297,6 @@ def struck_moves(tops, beginning):
 
 def struck_words(closing, beginning):
     """The sort of the words of struck forms of all histories from a beginning."""
-    if not is_beginning(beginning):
-        raise BadBeginning()
+    require_beginning(beginning)
     moves, marks = struck_moves(Tops(closing), beginning)
     return Sort(closing.letters, one_form(moves, marks), ())

@@ -1,11 +1,12 @@
 """Sorts with struck arrows: what the words between their states strike to."""
 
-from asksmore.arrows import Arrows, are_closed, forms_reached, is_state, read_arrows, struck_table, tops_reached
-from asksmore.errors import BadBeginning, BadState, BadTop, TooMany
-from asksmore.histories import is_beginning
+from asksmore.arrows import (Arrows, are_closed, forms_reached, is_state, read_arrows, struck_table, told_arrows,
+                             tops_reached)
+from asksmore.errors import BadState, BadTop, TooMany
+from asksmore.histories import require_beginning
 from asksmore.letters import require_same
 from asksmore.sorts import fitted
-from asksmore.tops import NOTHING, Tops, coded, named
+from asksmore.tops import NOTHING, Tops, coded
 from asksmore.ways import size_of_way, word_of
 
 MOST_WIDENED = 12
@@ -32,8 +33,7 @@ class Widened:
         self.closing = closing
         self.domain = domain
         self.found = Arrows(closing, domain)
-        arrows = sorted(list(self.found.ways))
-        self.arrows = tuple([(start, named(closing.letters, x), end) for start, x, end in arrows])
+        self.arrows = told_arrows(closing.letters, self.found.ways)
 
     def way(self, start, x, end):
         """The first way between two states that strikes to a letter or nothing; None if there is none."""
@@ -80,12 +80,6 @@ class Widened:
         require_beginning(beginning)
         require_same(self.domain.letters, forms.letters)
         return word_of(self.closing.letters, forms_reached(self.found, beginning, forms.table))
-
-
-def require_beginning(value):
-    """Refuse what is not a beginning."""
-    if not is_beginning(value):
-        raise BadBeginning()
 
 
 def struck_sort(closing, sort, beginning):

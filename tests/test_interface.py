@@ -15,6 +15,7 @@ FUNCTIONS = {
     "widened": {"struck_sort": "(closing, sort, beginning)", "is_closed": "(closing, sort, arrows)"},
     "allowed": {"reaches": "(closing, letter, top)", "witness": "(closing, letter, top)",
                 "allowed": "(closing, limits, top)", "barred": "(closing, limits)", "conflict": "(closing, limits)"},
+    "verdicts": {"decide": "(closing, limits, test)", "is_paper": "(closing, limits, test, paper)"},
 }
 
 CLASSES = {
@@ -31,6 +32,11 @@ CLASSES = {
                         "__getitem__", "__iter__"])},
     "widened": {"Widened": ("(closing, domain)", ["least", "word", "reach", "reached", "into"])},
     "answerers": {"Answerer": ("(closing, tops, special=())", ["__call__", "state", "breaks"])},
+    "asked": {"After": ("(beginning, domain, answers)", ["__eq__"]),
+              "Same": ("(beginning, domain, one, other)", ["__eq__"]),
+              "State": ("(beginning, domain, one, other)", ["__eq__"])},
+    "stands": {"Stands": ("(closing, one, other)", ["step", "end", "walk"])},
+    "verdicts": {"Verdict": (None, ["word", "answerer", "paper"])},
 }
 
 METHODS = {("sorts", "Sort", "number_of"): "(self, n, *, modulo=None)",
@@ -44,7 +50,11 @@ METHODS = {("sorts", "Sort", "number_of"): "(self, n, *, modulo=None)",
            ("widened", "Widened", "reach"): "(self, beginning, state, top)",
            ("widened", "Widened", "reached"): "(self, beginning, state, top)",
            ("widened", "Widened", "into"): "(self, beginning, forms)",
-           ("answerers", "Answerer", "breaks"): "(self, sentence)"}
+           ("answerers", "Answerer", "breaks"): "(self, sentence)",
+           ("stands", "Stands", "step"): "(self, stand, letter)",
+           ("stands", "Stands", "end"): "(self, stand, beginning)",
+           ("stands", "Stands", "walk"): "(self, history)", ("verdicts", "Verdict", "word"): "(self)",
+           ("verdicts", "Verdict", "answerer"): "(self)", ("verdicts", "Verdict", "paper"): "(self)"}
 
 
 class InterfaceTest(unittest.TestCase):
