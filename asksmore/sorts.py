@@ -149,8 +149,6 @@ class Sort:
     def step(self, state, letter):
         """The state to which a row leads, or None."""
         self.require_state(state)
-        if letter not in self.letters:
-            raise BadLetter(0)
         return self.table.moves[state][self.letters.rank(letter)]
 
     def is_end(self, state):

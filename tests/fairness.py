@@ -7,7 +7,7 @@ from asksmore.asked import After, Same, State
 from asksmore.closing import close
 from asksmore.histories import History
 from asksmore.letters import Letters
-from asksmore.sentences import Sentence
+from asksmore.sentences import Limit, Sentence
 from asksmore.strikes import struck
 from tests.machines import AB, ABC, live_of, own_sizes, own_together, random_sort
 from tests.own import random_told, sides
@@ -35,6 +35,25 @@ def random_case(source, most=5):
     letters = source.choice((AB, ABC))
     closing = close(letters, random_told(source, letters, source.randrange(most)))
     return closing, random_limits(source, letters, source.randrange(4)), random_test(source, letters)
+
+
+def fair_case(source):
+    """A closing, limits and a test that often is fair, over the same letters."""
+    letters = source.choice((AB, ABC))
+    kinds = ("idle", "kept", "still", "still", "over", "undone", "alike")
+    closing = close(letters, random_told(source, letters, source.randrange(4), kinds))
+    beginning = source.choice(("new", "found"))
+    sort = random_sort(source, letters, source.randrange(1, 4), source.choice((0, 0.2, 0.4)))
+    answers = source.sample(ANSWERS, 2)
+    limits = [Limit(letters, "always", answers)] + random_limits(source, letters, source.randrange(2))
+    if source.random() < 0.5:
+        return closing, limits, After(beginning, sort, answers + source.sample(ANSWERS, source.randrange(2)))
+    one = [source.choice(letters.words) for _ in range(source.randrange(4))]
+    other = struck(closing, History.spelled(letters, source.choice(("new", "found")), one)).word()
+    if source.random() < 0.3:
+        limits.append(Limit(letters, source.choice(("always", "fresh")), answers[:1]))
+        other = other[:1]
+    return closing, limits, source.choice((Same, State))(beginning, sort, one, other)
 
 
 def forms_behind(closing, test, word):

@@ -10,7 +10,7 @@ from asksmore.sorts import Sort
 from asksmore.stands import Stands
 from asksmore.verdicts import decide, is_paper
 from asksmore.widened import is_closed
-from tests.fairness import is_own_closed, is_own_ground, is_own_nodes, is_own_tops, random_case
+from tests.fairness import fair_case, is_own_closed, is_own_ground, is_own_nodes, is_own_tops, random_case
 from tests.machines import AB, live_of
 from tests.own import STRANGE, Case
 
@@ -54,9 +54,9 @@ def some_papers(seed, many, want):
     source = random.Random(seed)
     found = 0
     while found < many:
-        closing, limits, test = random_case(source, 4)
+        closing, limits, test = fair_case(source) if source.random() < 0.7 else random_case(source, 4)
         verdict = decide(closing, limits, test)
-        if test.domain.states <= 2 and want(verdict):
+        if want(verdict) and (test.domain.ends or source.random() < 0.1):
             found += 1
             yield source, Paper(closing, limits, test), verdict.paper()
 

@@ -225,6 +225,13 @@ class RanksTest(Case):
         self.assertEqual(size_of_times(one, 7)[42], ("a",) * 294)
         self.fails(TooLong, lambda: size_of_times(one, 7)[43], 43)
 
+    def test_endless_sorts_with_rare_words(self):
+        for many in (2, 7, 12):
+            for ahead in range(many):
+                sort = size_of_times(Letters(["a"]), many).after(["a"] * ahead)
+                self.fails(TooLong, lambda: sort[300], 300)
+                self.assertEqual(sort[0], ("a",) * ((many - ahead) % many))
+
     def test_ranks_of_other_values(self):
         sort = Sort.every(AB)
         for value in STRANGE[:9] + [["a"], [], ("a", 1), ("c",), ("a",) * 301 + ("c",), ["a"] * 301, ("new",)]:

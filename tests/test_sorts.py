@@ -262,6 +262,7 @@ class MadeSortsTest(Case):
         self.fails(TooLong, lambda: Sort.menus(AB, [[]] * 40), 40)
         for value in STRANGE[:11] + STRANGE[12:] + ["c"]:
             self.fails(BadMenu, lambda: Sort.menus(AB, [["a"], [], ["b", value], [value]]), 2)
+        self.fails(BadMenu, lambda: Sort.menus(AB, [["a"], "ab"]), 1)
 
     def test_ending(self):
         for letter in ABC:
