@@ -82,8 +82,8 @@ class Answerer:
             return History(sentence.letters, sentence.left.beginning)
         wrong = self.wrong_at(sentence)
         # A shorter history is shown where there is one.
-        fitting = [history for history in wrong if history.size <= MOST_SHOWN]
-        return [*fitting, *wrong, None][0]
+        ordered = [history for history in wrong if history.size <= MOST_SHOWN] + wrong
+        return ordered[0] if ordered else None
 
     def wrong_at(self, limit):
         """Histories of which a limit speaks and after which the answer is none of its words.

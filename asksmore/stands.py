@@ -27,6 +27,11 @@ def met(closing, letter, word):
     return True, ()
 
 
+def last_of(first, word):
+    """The last letter of a word, or what stands ahead of it if it has no letter."""
+    return word[-1] if word else first
+
+
 def in_order(side, one, other):
     """Two values in the order of the sides, where the first one is that of this side."""
     return (one, other) if side == 0 else (other, one)
@@ -64,7 +69,7 @@ def read_on(closing, told, letter):
     if not stays:
         return followed(side, (letter, *tail), left) if kind == "level" else (kind, side, tail, left)
     is_equal = kind == "level" and tail == left
-    tops = in_order(side, tail[-1], (letter, *left)[-1])
+    tops = in_order(side, tail[-1], last_of(letter, left))
     return "done", is_equal, tops[0], tops[1]
 
 
@@ -74,10 +79,10 @@ def ended(closing, told, beginning):
         return told[1:]
     if told[0] == "open":
         one, other = [begun(closing, beginning, word) for word in told[1:]]
-        return one == other, (beginning, *one)[-1], (beginning, *other)[-1]
+        return one == other, last_of(beginning, one), last_of(beginning, other)
     kind, side, tail, word = told
     form = begun(closing, beginning, word)
-    tops = in_order(side, tail[-1], (beginning, *form)[-1])
+    tops = in_order(side, tail[-1], last_of(beginning, form))
     return kind == "level" and tail == form, tops[0], tops[1]
 
 

@@ -212,6 +212,9 @@ class BreaksTest(Case):
                       Limit(DEEDS, "behind", ["x"], "pop")):
             self.is_break(answerer, limit, answerer.breaks(limit))
         one = Letters(["a"])
+        still = Answerer(close(one, [Sentence(one, "still", "a")]), {"new": "x", "found": "x", "a": "y"},
+                         [(History(one, "found", [("a", many)]), "x") for many in range(1, 11)])
+        self.assertEqual(still.breaks(Limit(one, "always", ["x"])), History(one, "found", [("a", 11)]))
         lone = Answerer(close(one, [Sentence(one, "kept", "a", "a")]), {"new": "x", "found": "x", "a": "y"},
                         [(History(one, beginning, [("a", 1)]), "x") for beginning in ("new", "found")])
         self.assertIsNone(lone.breaks(Limit(one, "always", ["x"])))
@@ -228,6 +231,8 @@ class BreaksTest(Case):
         both = Answerer(STACK, TOPS, [(pushes(10 ** 30), "wrong"), (pushes(1998), "wrong"), (pushes(1999), "wrong")])
         self.assertLessEqual(both.breaks(always).size, 2000)
         self.assertEqual(both.breaks(Limit(DEEDS, "behind", list(TOPS.values()), "pop")).size, 2000)
+        near = Answerer(STACK, TOPS, [(pushes(2001), "wrong"), (pushes(2000), "wrong")])
+        self.assertEqual(near.breaks(always), pushes(2000))
         short = Answerer(STACK, {**TOPS, "pop": "wrong"}, [(pushes(10 ** 30), "wrong")])
         self.assertLessEqual(short.breaks(always).size, 2000)
 

@@ -241,6 +241,18 @@ class IntoTest(Case):
     def test_forms_that_are_not_struck(self):
         wide = Widened(UP_DOWN, Sort.every(STEPS))
         self.assertIsNone(wide.into("found", Sort.only(STEPS, ["up", "down"])))
+        letters = Letters(["wait", "up", "down"])
+        told = [Sentence(letters, "idle", "wait"), Sentence(letters, "undone", "up", "down")]
+        waiting = Widened(close(letters, told), Sort.every(letters))
+        for beginning in ("new", "found"):
+            self.assertIsNone(waiting.into(beginning, Sort.only(letters, ["up", "down"])))
+            self.assertIsNone(waiting.into(beginning, Sort.only(letters, ["up", "wait"])))
+            self.assertEqual(waiting.into(beginning, Sort.only(letters, ["down", "up"])), ("down", "up"))
+        going = Widened(waiting.closing, Sort.only(letters, ["up", "wait", "down", "up", "wait"]))
+        for beginning in ("new", "found"):
+            self.assertEqual(going.into(beginning, Sort.only(letters, ["up"])), ("up", "wait", "down", "up", "wait"))
+            for word in (["up", "down"], ["up", "down", "up"], ["up", "down", "up", "down"], ["up", "up"]):
+                self.assertIsNone(going.into(beginning, Sort.only(letters, word)))
         still = Widened(close(STEPS, [Sentence(STEPS, "still", "down")]), Sort.every(STEPS))
         self.assertIsNone(still.into("new", Sort.only(STEPS, ["down", "up"])))
         self.assertEqual(still.into("new", Sort.only(STEPS, ["up", "down"])), ("up", "down"))
