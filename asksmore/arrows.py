@@ -3,7 +3,7 @@
 An arrow is a triple of a state, the rank of a live letter or NOTHING, and a state.
 """
 
-from asksmore.plain import is_list_of, is_whole
+from asksmore.plain import is_index, is_list_of
 from asksmore.tables import determined
 from asksmore.tops import NOTHING, Tops, coded, named
 from asksmore.ways import NO_WAY, first_ways, in_turn
@@ -123,15 +123,10 @@ def read_arrows(tops, states, value):
     for part in value:
         if not is_list_of(part, 3) or part[1] not in live:
             return None
-        if not is_state(part[0], states) or not is_state(part[2], states):
+        if not is_index(part[0], states) or not is_index(part[2], states):
             return None
         found[part[0], coded(tops.letters, part[1]), part[2]] = True
     return found
-
-
-def is_state(value, states):
-    """Whether a value is one of so many states."""
-    return is_whole(value) and 0 <= value < states
 
 
 def are_closed(tops, table, arrows):

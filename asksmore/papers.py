@@ -4,9 +4,8 @@ Each part of a paper is what a walk along its arrows comes to, or more. So a wal
 starts until nothing new is found, and it checks a part by asking whether all this is there.
 """
 
-from asksmore.arrows import is_state
 from asksmore.letters import BEGINNINGS
-from asksmore.plain import is_list_of
+from asksmore.plain import is_index, is_list_of
 
 
 def outward(arrows, states):
@@ -37,7 +36,7 @@ class TopWalk:
 
     def read(self, value):
         """A node of a value, or None if it is none."""
-        if not is_list_of(value, 2) or not is_state(value[0], self.many):
+        if not is_list_of(value, 2) or not is_index(value[0], self.many):
             return None
         return tuple(value) if value[1] in [*BEGINNINGS, *self.live] else None
 
@@ -57,7 +56,7 @@ class GroundWalk:
 
     def read(self, value):
         """A state of a value, or None if it is none."""
-        return value if is_state(value, self.many) else None
+        return value if is_index(value, self.many) else None
 
 
 class NodeWalk:
@@ -87,9 +86,9 @@ class NodeWalk:
 
     def read(self, value):
         """A node of a value, or None if it is none."""
-        if not is_list_of(value, 3) or not is_state(value[0], self.many) or value[1] not in [None, *self.live]:
+        if not is_list_of(value, 3) or not is_index(value[0], self.many) or value[1] not in [None, *self.live]:
             return None
-        return tuple(value) if is_state(value[2], self.stands.size) else None
+        return tuple(value) if is_index(value[2], self.stands.size) else None
 
 
 def walked_through(walk):

@@ -10,6 +10,11 @@ def is_whole(value):
     return isinstance(value, int) and not isinstance(value, bool)
 
 
+def is_index(value, many):
+    """Whether a value is an integer from 0 on that is less than a number."""
+    return is_whole(value) and 0 <= value < many
+
+
 def is_list_of(value, many):
     """Whether a value is a list or tuple of so many elements."""
     return isinstance(value, (list, tuple)) and len(value) == many

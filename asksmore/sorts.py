@@ -6,7 +6,7 @@ from asksmore.errors import (BadEnd, BadLetter, BadMenu, BadNumber, BadPlace, Ba
                              TwiceTold)
 from asksmore.histories import require_beginning
 from asksmore.letters import require_same
-from asksmore.plain import is_list_of, is_whole
+from asksmore.plain import is_index, is_list_of, is_whole
 from asksmore.tables import (Table, first_word, in_succession, is_at_end, leap, one_form, over_and_over, paired,
                              seen_from, stepped_on, turned_round)
 from asksmore.tops import NOTHING, Tops
@@ -21,15 +21,12 @@ MOST_SQUARED = 12
 MOST_NUMBER = 10 ** 30
 
 
-def is_told_state(value):
-    """Whether a value is a state that may be passed for a new sort."""
-    return is_whole(value) and 0 <= value < MOST_TOLD
-
-
 def require_rows(letters, rows):
     """Refuse what is no list of rows, then a second row for a state and a letter."""
     for index, row in enumerate(rows):
-        if not is_list_of(row, 3) or not is_told_state(row[0]) or row[1] not in letters or not is_told_state(row[2]):
+        if not is_list_of(row, 3) or row[1] not in letters:
+            raise BadRow(index)
+        if not is_index(row[0], MOST_TOLD) or not is_index(row[2], MOST_TOLD):
             raise BadRow(index)
     seen = {}
     for index, (state, letter, _) in enumerate(rows):
@@ -42,7 +39,7 @@ def told_table(letters, rows, ends):
     """The one form of a machine that is told by its rows and ends."""
     require_rows(letters, rows)
     for index, state in enumerate(ends):
-        if not is_told_state(state):
+        if not is_index(state, MOST_TOLD):
             raise BadEnd(index)
     targets = dict([((state, letter), target) for state, letter, target in rows])
     moves = [[targets.get((state, letter)) for letter in letters] for state in range(MOST_TOLD)]
@@ -156,10 +153,10 @@ class Sort:
         self.require_state(state)
         return self.table.marks[state]
 
-    def require_state(self, state, index=0):
+    def require_state(self, state):
         """Refuse what is not a state of the one form."""
-        if not is_whole(state) or not 0 <= state < len(self.table.moves):
-            raise BadState(index)
+        if not is_index(state, len(self.table.moves)):
+            raise BadState(0)
 
     def repeated(self):
         """Any number of words of the sort, one after the other."""

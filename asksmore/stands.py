@@ -12,7 +12,7 @@ What has been read is told by one of four kinds of tuples. Words in them are str
 from asksmore.asked import told_word
 from asksmore.errors import BadStand
 from asksmore.histories import History, require_beginning
-from asksmore.plain import is_whole
+from asksmore.plain import is_index
 from asksmore.strikes import struck
 
 
@@ -119,7 +119,7 @@ class Stands:
 
     def require_stand(self, stand):
         """Refuse what is not a stand."""
-        if not is_whole(stand) or not 0 <= stand < self.size:
+        if not is_index(stand, self.size):
             raise BadStand(stand)
 
     def step(self, stand, letter):

@@ -1,10 +1,10 @@
 """Sorts with struck arrows: what the words between their states strike to."""
 
-from asksmore.arrows import (Arrows, are_closed, forms_reached, is_state, read_arrows, struck_table, told_arrows,
-                             tops_reached)
+from asksmore.arrows import Arrows, are_closed, forms_reached, read_arrows, struck_table, told_arrows, tops_reached
 from asksmore.errors import BadState, BadTop, TooMany
 from asksmore.histories import require_beginning
-from asksmore.letters import require_same
+from asksmore.letters import BEGINNINGS, require_same
+from asksmore.plain import is_index
 from asksmore.sorts import fitted
 from asksmore.tops import NOTHING, Tops, coded
 from asksmore.ways import size_of_way, word_of
@@ -33,6 +33,7 @@ class Widened:
         self.closing = closing
         self.domain = domain
         self.found = Arrows(closing, domain)
+        self.found_tops = {beginning: tops_reached(self.found, beginning) for beginning in BEGINNINGS}
         self.arrows = told_arrows(closing.letters, self.found.ways)
 
     def way(self, start, x, end):
@@ -45,7 +46,7 @@ class Widened:
 
     def require_state(self, state, index):
         """Refuse what is not a state of the sort."""
-        if not is_state(state, self.domain.states):
+        if not is_index(state, self.domain.states):
             raise BadState(index)
 
     def least(self, start, x, end):
@@ -65,7 +66,7 @@ class Widened:
         if top not in [beginning, *live]:
             raise BadTop(top)
         code = NOTHING if top == beginning else letters.rank(top)
-        return tops_reached(self.found, beginning).get((state, code))
+        return self.found_tops[beginning].get((state, code))
 
     def reach(self, beginning, state, top):
         """The least size of a word to a state whose history has a top, or None."""
