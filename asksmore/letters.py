@@ -40,9 +40,10 @@ class Letters:
 
     def rank(self, x):
         """The index of a letter."""
-        if x not in self:
-            raise BadLetter(0)
-        return self.words.index(x)
+        for place, word in enumerate(self.words):
+            if word == x:
+                return place
+        raise BadLetter(0)
 
     def __contains__(self, x):
         return x in self.words

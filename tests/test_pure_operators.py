@@ -28,6 +28,8 @@ def defined():
 
 
 FUNCTIONS, METHODS, CLASSES = defined()
+STORED = {node.attr for tree in TREES.values() for node in ast.walk(tree)
+          if isinstance(node, ast.Attribute) and isinstance(node.ctx, ast.Store)}
 
 
 def is_made(value):
@@ -63,6 +65,9 @@ def changes(function):
         elif isinstance(node, ast.AugAssign):
             if not isinstance(node.value, ast.Constant) or not isinstance(node.value.value, int):
                 yield node
+        elif isinstance(node, ast.Call) and isinstance(node.func, ast.Attribute) and node.func.attr in STORED:
+            # Under this name the package holds something, which might be what is called.
+            yield node
         elif isinstance(node, ast.Call) and isinstance(node.func, ast.Attribute) and node.func.attr in CHANGING:
             if not isinstance(node.func.value, ast.Name) or node.func.value.id not in own:
                 yield node
