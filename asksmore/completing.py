@@ -31,8 +31,7 @@ class Completion:
         self.lengths = []
         # From the beginning and the left side of a rule to its right side and its row.
         self.rules = {}
-        # The equation with the shortest chain comes first, so that chains stay short.
-        self.queue = []
+        self.offers = []
         self.offered = 0
         for sentence in told:
             self.rows.append((sentence, ()))
@@ -50,12 +49,12 @@ class Completion:
         last, behind = self.reduced(beginning, last)
         if first != last:
             steps = self.way_back(before) + steps + behind
-            heappush(self.queue, (self.length(steps), self.offered, beginning, first, last, steps))
+            self.offers.append((self.length(steps), self.offered, beginning, first, last, steps))
             self.offered += 1
 
-    def settle(self):
-        """Make a rule of the first equation that waits, if the rules do not strike it further."""
-        beginning, first, last, steps = heappop(self.queue)[2:]
+    def settle(self, equation):
+        """Make a rule of an equation that waited, if the rules do not strike it further."""
+        beginning, first, last, steps = equation[2:]
         if self.reduced(beginning, first)[1] or self.reduced(beginning, last)[1]:
             self.offer(beginning, first, last, steps)
         elif self.weight(first) > self.weight(last):
@@ -159,6 +158,12 @@ def completed(letters, told):
     work = Completion(letters, told)
     for row in range(len(told)):
         work.offer_row(row)
-    while work.queue:
-        work.settle()
+    # The equation with the shortest chain comes first, so that chains stay short. An item that is put into a
+    # specification comes here, too, so the heap is this function's own.
+    queue = []
+    while work.offers or queue:
+        for equation in work.offers:
+            heappush(queue, equation)
+        work.offers = []
+        work.settle(heappop(queue))
     return work

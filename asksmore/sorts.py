@@ -174,7 +174,7 @@ class Sort:
         require_same(self.letters, history.letters)
         state = 0
         for letter, count in history.runs:
-            state = leap(self.table, state, self.letters.rank(letter), count)
+            state = leap(self.table.moves, state, self.letters.rank(letter), count)
         return is_at_end(self.table, state)
 
     def after(self, word):

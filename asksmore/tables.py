@@ -60,17 +60,18 @@ def grouped(part, came):
     return [[state for number, state in pairs[start:stop]] for start, stop in zip(starts, stops)]
 
 
-def parts(moves, marks):
-    """For each state a number, the same one for states from which the same words lead to an end.
+def parts(moves, kinds):
+    """For each state a number, the same one for states from which each word leads to states of one kind.
 
-    Parts are torn until each letter leads all states of a part into one part or none. Of a part that is torn,
-    only the smaller half must be asked about anew, so long rings of states take few rounds.
+    The kinds of the states are numbers from 0 on. Parts are torn until each letter leads all states of a part into
+    one part or none. Of a part that is torn, only the smaller half must be asked about anew, so long rings of states
+    take few rounds.
     """
     back = arrivals(moves)
-    part = [1 if mark else 0 for mark in marks]
-    members = [[state for state, mark in enumerate(marks) if mark == is_end] for is_end in (False, True)]
-    waiting = [0, 1]
-    is_waiting = [True, True]
+    part = list(kinds)
+    members = [[state for state, kind in enumerate(kinds) if kind == number] for number in range(max(kinds) + 1)]
+    waiting = list(range(len(members)))
+    is_waiting = [True for _ in members]
     while waiting:
         asked = waiting.pop()
         is_waiting[asked] = False
@@ -92,22 +93,33 @@ def parts(moves, marks):
     return part
 
 
+def renumbered(moves, order):
+    """The rows of some states, which get the numbers of this order."""
+    place = dict([(state, at) for at, state in enumerate(order)])
+    return [[place.get(target) for target in moves[state]] for state in order]
+
+
+def merged(moves, kinds):
+    """The rows where states of one part are one state, numbered by their first members; these; and for each state
+    its new number."""
+    part = parts(moves, kinds)
+    first = []
+    number = {}
+    for at in range(len(moves)):
+        if part[at] not in number:
+            number[part[at]] = len(first)
+            first.append(at)
+    rows = [[None if target is None else number[part[target]] for target in moves[at]] for at in first]
+    return rows, first, [number[old] for old in part]
+
+
 def one_form(moves, marks):
     """The one form of a machine."""
     is_kept = leading(moves, marks)
     if not is_kept[0]:
         return Table([[None for _ in moves[0]]], [False])
     order = in_order(moves, is_kept)
-    place = dict([(state, at) for at, state in enumerate(order)])
-    kept = [[place.get(target) for target in moves[state]] for state in order]
-    part = parts(kept, [marks[state] for state in order])
-    first = []
-    number = {}
-    for at in range(len(order)):
-        if part[at] not in number:
-            number[part[at]] = len(first)
-            first.append(at)
-    rows = [[None if target is None else number[part[target]] for target in kept[at]] for at in first]
+    rows, first, _ = merged(renumbered(moves, order), [1 if marks[state] else 0 for state in order])
     return Table(rows, [marks[order[at]] for at in first])
 
 
@@ -218,12 +230,12 @@ def stepped_on(table, word):
     return state
 
 
-def leap(table, state, rank, count):
+def leap(moves, state, rank, count):
     """The state after so many times one letter, or None."""
     way = []
     while state is not None and state not in way and len(way) < count:
         way.append(state)
-        state = table.moves[state][rank]
+        state = moves[state][rank]
     left = count - len(way)
     if left == 0 or state is None:
         return state

@@ -16,6 +16,11 @@ FUNCTIONS = {
     "allowed": {"reaches": "(closing, letter, top)", "witness": "(closing, letter, top)",
                 "allowed": "(closing, limits, top)", "barred": "(closing, limits)", "conflict": "(closing, limits)"},
     "verdicts": {"decide": "(closing, limits, test)", "is_paper": "(closing, limits, test, paper)"},
+    "halves": {"menu": "(letters)", "halves": "(spec, test)"},
+    "editions": {"holds": "(spec, item)", "within": "(one, other)", "parting": "(one, other)", "form": "(spec)",
+                 "common": "(one, other)", "needless": "(spec)", "irreducible": "(spec, is_enough)",
+                 "least_sets": "(spec, is_enough)", "cuts": "(spec, is_enough)",
+                 "first_open": "(spec, beginning)", "struck_machine": "(spec)"},
 }
 
 CLASSES = {
@@ -37,6 +42,12 @@ CLASSES = {
               "State": ("(beginning, domain, one, other)", ["__eq__"])},
     "stands": {"Stands": ("(closing, one, other)", ["step", "end", "walk"])},
     "verdicts": {"Verdict": (None, ["word", "answerer", "paper"])},
+    "machines": {"Machine": ("(letters, rows, answers, *, new=0, found=0)",
+                             ["states", "__call__", "state", "breaks", "minimal", "apart", "words_with"])},
+    "specs": {"Spec": ("(letters)",
+                       ["names", "entries", "__len__", "__iter__", "__getitem__", "__setitem__", "drop", "copy",
+                        "selected", "joined", "allowed", "is_possible", "decide", "admits", "unkept", "trial",
+                        "attempt"])},
 }
 
 METHODS = {("sorts", "Sort", "number_of"): "(self, n, *, modulo=None)",
@@ -54,7 +65,17 @@ METHODS = {("sorts", "Sort", "number_of"): "(self, n, *, modulo=None)",
            ("stands", "Stands", "step"): "(self, stand, letter)",
            ("stands", "Stands", "end"): "(self, stand, beginning)",
            ("stands", "Stands", "walk"): "(self, history)", ("verdicts", "Verdict", "word"): "(self)",
-           ("verdicts", "Verdict", "answerer"): "(self)", ("verdicts", "Verdict", "paper"): "(self)"}
+           ("verdicts", "Verdict", "answerer"): "(self)", ("verdicts", "Verdict", "paper"): "(self)",
+           ("machines", "Machine", "__call__"): "(self, history)", ("machines", "Machine", "state"): "(self, history)",
+           ("machines", "Machine", "breaks"): "(self, sentence)", ("machines", "Machine", "minimal"): "(self)",
+           ("machines", "Machine", "apart"): "(self, other)",
+           ("machines", "Machine", "words_with"): "(self, beginning, answers)",
+           ("specs", "Spec", "drop"): "(self, name)", ("specs", "Spec", "copy"): "(self)",
+           ("specs", "Spec", "selected"): "(self, names)", ("specs", "Spec", "joined"): "(self, other)",
+           ("specs", "Spec", "allowed"): "(self, top)", ("specs", "Spec", "is_possible"): "(self)",
+           ("specs", "Spec", "decide"): "(self, test)", ("specs", "Spec", "admits"): "(self, program)",
+           ("specs", "Spec", "unkept"): "(self, program)", ("specs", "Spec", "trial"): "(self, action)",
+           ("specs", "Spec", "attempt"): "(self, action)"}
 
 
 class InterfaceTest(unittest.TestCase):

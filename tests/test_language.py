@@ -180,6 +180,30 @@ class LanguageTest(unittest.TestCase):
         self.assertFalse(methods & attributes)
         self.assertFalse(attributes & NOT_ATTRIBUTES)
 
+    def test_names_of_properties_and_class_methods_are_theirs_alone(self):
+        found = {"plain": set(), "property": set(), "classmethod": set(), "staticmethod": set()}
+        for _, node in nodes(ast.ClassDef):
+            for part in node.body:
+                if isinstance(part, ast.FunctionDef):
+                    marks = [mark.id for mark in part.decorator_list] or ["plain"]
+                    found[marks[0]].add(part.name)
+        attributes = {node.attr for _, node in nodes(ast.Attribute) if isinstance(node.ctx, ast.Store)}
+        for kind in ("property", "classmethod", "staticmethod"):
+            others = [found[other] for other in found if other != kind] + [attributes, METHODS]
+            self.assertFalse(found[kind] & set().union(*others), kind)
+
+    def test_finally(self):
+        simple = (ast.Name, ast.Attribute, ast.Constant, ast.Tuple, ast.Load, ast.Store)
+        for place, node in nodes(ast.Try):
+            for part in node.finalbody:
+                if isinstance(part, ast.If):
+                    self.assertRegex(ast.unparse(part.test), r"^[a-z.]+ is (not )?None$", place)
+                    self.assertFalse(part.orelse, place)
+                for row in part.body if isinstance(part, ast.If) else [part]:
+                    self.assertIsInstance(row, ast.Assign, place)
+                    for target in [*row.targets, row.value]:
+                        self.assertTrue(all(isinstance(inner, simple) for inner in ast.walk(target)), place)
+
     def test_words_that_do_not_occur(self):
         for name, text in SOURCES.items():
             self.assertIsNone(NOT_WORDS.search(text), name)

@@ -87,19 +87,35 @@ def called(function):
             yield from METHODS.get(node.func.attr, [])
 
 
+def run_by(names):
+    """The methods of these names, the properties, and all that they may call."""
+    todo = [node for name in names for node in METHODS.get(name, [])]
+    todo += [node for nodes in METHODS.values() for node in nodes
+             if any(isinstance(mark, ast.Name) and mark.id == "property" for mark in node.decorator_list)]
+    seen = []
+    for function in todo:
+        if function not in seen:
+            seen.append(function)
+            todo.extend(called(function))
+    return seen
+
+
 class PureOperatorsTest(unittest.TestCase):
     def test_nothing_else_is_changed(self):
-        todo = [node for name in OPERATORS for node in METHODS.get(name, [])]
-        todo += [node for nodes in METHODS.values() for node in nodes
-                 if any(isinstance(mark, ast.Name) and mark.id == "property" for mark in node.decorator_list)]
-        seen = []
-        for function in todo:
-            if function not in seen:
-                seen.append(function)
-                for node in changes(function):
-                    self.fail(f"{function.name}, line {node.lineno}: {ast.unparse(node)}")
-                todo.extend(called(function))
+        seen = run_by(OPERATORS)
+        for function in seen:
+            for node in changes(function):
+                self.fail(f"{function.name}, line {node.lineno}: {ast.unparse(node)}")
         self.assertGreater(len(seen), 40)
+
+    def test_heaps_are_made_where_they_are_changed(self):
+        heaps = 0
+        for function in run_by(MAGIC - {"__init__", "__call__"}):
+            for node in ast.walk(function):
+                if isinstance(node, ast.Call) and isinstance(node.func, ast.Name) and node.func.id in HEAPS:
+                    heaps += 1
+                    self.assertIn(ast.unparse(node.args[0]), own_names(function), function.name)
+        self.assertGreater(heaps, 0)
 
 
 if __name__ == "__main__":

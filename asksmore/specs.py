@@ -1,0 +1,171 @@
+"""Specifications: named sentences about one ask, which may be changed."""
+
+from asksmore.allowed import allowed, barred
+from asksmore.answerers import Answerer
+from asksmore.closing import MOST_SENTENCES, close
+from asksmore.errors import BadName, Known, TooMany, Unknown
+from asksmore.letters import require_same
+from asksmore.machines import Machine
+from asksmore.plain import is_short_word
+from asksmore.sentences import Limit, Sentence
+from asksmore.verdicts import decide
+
+
+def require_name(value):
+    """Refuse what is not a name."""
+    if not is_short_word(value):
+        raise BadName(value)
+
+
+def require_few(many):
+    """Refuse more sentences than a specification may have."""
+    if many > MOST_SENTENCES:
+        raise TooMany("sentences", many, MOST_SENTENCES)
+
+
+def is_answering(value):
+    """Whether a value is a program that answers one ask."""
+    return isinstance(value, (Answerer, Machine))
+
+
+def letters_of(answerer):
+    """The letters of an answerer or a machine."""
+    return answerer.closing.letters if isinstance(answerer, Answerer) else answerer.letters
+
+
+def told_spec(letters, entries):
+    """The specification with these entries."""
+    spec = Spec(letters)
+    spec.hold(entries)
+    return spec
+
+
+class Spec:
+    """An ordered collection of named sentences about states and about answers."""
+
+    def __init__(self, letters):
+        self.letters = letters
+        self.closing = close(letters, [])
+        self.limits = ()
+        self._entries = ()
+
+    @property
+    def names(self):
+        """The names, in order."""
+        return tuple([name for name, item in self._entries])
+
+    @property
+    def entries(self):
+        """The pairs of a name and its item, in order."""
+        return self._entries
+
+    def __len__(self):
+        return len(self._entries)
+
+    def __iter__(self):
+        raise TypeError("a specification is not iterated over")
+
+    def __getitem__(self, at):
+        for name, item in self._entries:
+            if name == at:
+                return item
+        raise Unknown(at)
+
+    def __setitem__(self, at, worth):
+        require_name(at)
+        require_same(self.letters, worth.letters)
+        if at in self.names:
+            self.hold([(name, worth if name == at else item) for name, item in self._entries])
+        else:
+            require_few(len(self._entries) + 1)
+            self.hold([*self._entries, (at, worth)])
+
+    def hold(self, entries):
+        """Let these be the entries."""
+        told = tuple([item for name, item in entries if isinstance(item, Sentence)])
+        # A closing takes time, and it stays the same where only limits change.
+        if told != self.closing.told:
+            self.closing = close(self.letters, told)
+        self.limits = tuple([item for name, item in entries if isinstance(item, Limit)])
+        self._entries = tuple(entries)
+
+    def drop(self, name):
+        """Take a name out."""
+        self.require_known([name])
+        self.hold([(other, item) for other, item in self._entries if other != name])
+
+    def require_known(self, names):
+        """Refuse a name that is not there."""
+        known = self.names
+        for name in names:
+            if name not in known:
+                raise Unknown(name)
+
+    def copy(self):
+        """Another specification with the same entries."""
+        other = Spec(self.letters)
+        other.closing = self.closing
+        other.hold(self._entries)
+        return other
+
+    def selected(self, names):
+        """Another specification with the entries of these names only."""
+        self.require_known(names)
+        return told_spec(self.letters, [(name, item) for name, item in self._entries if name in names])
+
+    def joined(self, other):
+        """Another specification with the entries of this one and then those of another one."""
+        require_same(self.letters, other.letters)
+        known = dict(self._entries)
+        for name, item in other.entries:
+            if name in known and known[name] != item:
+                raise Known(name)
+        entries = [*self._entries, *[(name, item) for name, item in other.entries if name not in known]]
+        require_few(len(entries))
+        return told_spec(self.letters, entries)
+
+    def allowed(self, top):
+        """The answers allowed at a top, or None if any is allowed."""
+        return allowed(self.closing, self.limits, top)
+
+    def is_possible(self):
+        """Whether some answerer keeps the specification."""
+        return not barred(self.closing, self.limits)
+
+    def decide(self, test):
+        """The verdict about a test."""
+        return decide(self.closing, self.limits, test)
+
+    def admits(self, program):
+        """Whether a value is an answerer or a machine that keeps every sentence."""
+        if not is_answering(program) or letters_of(program) != self.letters:
+            return False
+        return self.unkept(program) is None
+
+    def unkept(self, program):
+        """The first name whose sentence an answerer or a machine does not keep, or None."""
+        require_same(self.letters, letters_of(program))
+        for name, item in self._entries:
+            if program.breaks(item) is not None:
+                return name
+        return None
+
+    def trial(self, action):
+        """What an action on this specification returns; its changes are taken back."""
+        entries, closing, limits = self._entries, self.closing, self.limits
+        try:
+            return action(self)
+        finally:
+            self._entries, self.closing, self.limits = entries, closing, limits
+
+    def attempt(self, action):
+        """What an action on this specification returns; its changes are taken back if an error leaves it."""
+        entries, closing, limits = self._entries, self.closing, self.limits
+        done = None
+        try:
+            result = action(self)
+            done = True
+            return result
+        finally:
+            if done is None:
+                self._entries, self.closing, self.limits = entries, closing, limits
