@@ -21,6 +21,12 @@ def require_beginning(value):
         raise BadBeginning()
 
 
+def require_count(index, value):
+    """Refuse what is not the count of a run; the run's index is said by the error."""
+    if not is_whole(value) or not 1 <= value <= MOST_COUNT:
+        raise BadCount(index)
+
+
 def require_runs(letters, runs):
     """Refuse a list that does not consist of runs of these letters."""
     for index, run in enumerate(runs):
@@ -28,8 +34,7 @@ def require_runs(letters, runs):
             raise BadRuns(index)
         if run[0] not in letters:
             raise BadLetter(index)
-        if not is_whole(run[1]) or not 1 <= run[1] <= MOST_COUNT:
-            raise BadCount(index)
+        require_count(index, run[1])
 
 
 def extended(letters, kept, runs):

@@ -42,8 +42,13 @@ def told_table(letters, rows, ends):
         if not is_index(state, MOST_TOLD):
             raise BadEnd(index)
     targets = dict([((state, letter), target) for state, letter, target in rows])
-    moves = [[targets.get((state, letter)) for letter in letters] for state in range(MOST_TOLD)]
-    return one_form(moves, [state in ends for state in range(MOST_TOLD)])
+    return table_of(letters, targets, ends, MOST_TOLD)
+
+
+def table_of(letters, targets, ends, most):
+    """The one form of a machine of at most so many states, from the next states by states and letters."""
+    moves = [[targets.get((state, letter)) for letter in letters] for state in range(most)]
+    return one_form(moves, [state in ends for state in range(most)])
 
 
 def require_letters(letters, word):

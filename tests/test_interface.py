@@ -21,6 +21,9 @@ FUNCTIONS = {
                  "common": "(one, other)", "needless": "(spec)", "irreducible": "(spec, is_enough)",
                  "least_sets": "(spec, is_enough)", "cuts": "(spec, is_enough)",
                  "first_open": "(spec, beginning)", "struck_machine": "(spec)"},
+    "texts": {"read_item": "(letters, line)", "write_sort": "(sort)", "read_sort": "(letters, line)",
+              "write_test": "(test)", "read_test": "(letters, line)", "write_spec": "(spec)", "read_spec": "(text)",
+              "write_book": "(book)", "read_book": "(text)"},
 }
 
 CLASSES = {
@@ -48,6 +51,11 @@ CLASSES = {
                        ["names", "entries", "__len__", "__iter__", "__getitem__", "__setitem__", "drop", "copy",
                         "selected", "joined", "allowed", "is_possible", "decide", "admits", "unkept", "trial",
                         "attempt"])},
+    "logs": {"Log": ("(spec)", ["spec", "facts", "record", "undo", "broken", "why", "possible", "sure", "unread"])},
+    "books": {"Book": ("(deeds, asks)",
+                       ["__getitem__", "__iter__", "seen", "copy", "is_possible", "within", "admits", "unkept"]),
+              "Program": ("(book, answerers)", ["__call__"])},
+    "desks": {"Desk": ("(book)", ["book", "guards", "say", "drop", "guard", "release", "undo", "redo", "run", "trial"])},
 }
 
 METHODS = {("sorts", "Sort", "number_of"): "(self, n, *, modulo=None)",
@@ -75,7 +83,15 @@ METHODS = {("sorts", "Sort", "number_of"): "(self, n, *, modulo=None)",
            ("specs", "Spec", "allowed"): "(self, top)", ("specs", "Spec", "is_possible"): "(self)",
            ("specs", "Spec", "decide"): "(self, test)", ("specs", "Spec", "admits"): "(self, program)",
            ("specs", "Spec", "unkept"): "(self, program)", ("specs", "Spec", "trial"): "(self, action)",
-           ("specs", "Spec", "attempt"): "(self, action)"}
+           ("specs", "Spec", "attempt"): "(self, action)",
+           ("logs", "Log", "record"): "(self, history, answer)", ("logs", "Log", "possible"): "(self, history)",
+           ("logs", "Log", "sure"): "(self, history)", ("logs", "Log", "unread"): "(self, beginning, menus)",
+           ("books", "Book", "seen"): "(self, ask, name, beginning, runs)", ("books", "Book", "within"): "(self, other)",
+           ("books", "Book", "admits"): "(self, program)", ("books", "Book", "unkept"): "(self, program)",
+           ("books", "Program", "__call__"): "(self, ask, name, beginning, runs)",
+           ("desks", "Desk", "say"): "(self, ask, name, item)", ("desks", "Desk", "drop"): "(self, ask, name)",
+           ("desks", "Desk", "guard"): "(self, name, ask, test)", ("desks", "Desk", "release"): "(self, name)",
+           ("desks", "Desk", "run"): "(self, line)", ("desks", "Desk", "trial"): "(self, action)"}
 
 
 class InterfaceTest(unittest.TestCase):
