@@ -44,7 +44,6 @@ def run_guard(desk, words):
     name = take_name(words)
     ask, spec = take_ask(words, desk.book())
     test = take_test(words, spec.letters)
-    words.finish()
     desk.guard(name, ask, test)
     return "done"
 
@@ -75,7 +74,6 @@ def run_decide(desk, words):
     """Whether the test that the words tell is fair."""
     _, spec = take_ask(words, desk.book())
     test = take_test(words, spec.letters)
-    words.finish()
     return "fair" if spec.decide(test).fair else "overasked"
 
 

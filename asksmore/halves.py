@@ -50,7 +50,7 @@ def weakest(found):
     """The sentences than which none is weaker; of those that follow from one another the first one."""
     kept = []
     for at, (sentence, closing) in enumerate(found):
-        below = [place for place, (other, _) in enumerate(found) if place != at and follows(closing, other)]
+        below = [place for place, (other, _) in enumerate(found) if follows(closing, other)]
         if not any([place < at or not follows(found[place][1], sentence) for place in below]):
             kept.append(sentence)
     return tuple(kept)

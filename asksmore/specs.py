@@ -25,7 +25,7 @@ def require_few(many):
 
 def is_answering(value):
     """Whether a value is a program that answers one ask."""
-    return isinstance(value, (Answerer, Machine))
+    return isinstance(value, Answerer) or isinstance(value, Machine)
 
 
 def letters_of(answerer):
@@ -161,11 +161,10 @@ class Spec:
     def attempt(self, action):
         """What an action on this specification returns; its changes are taken back if an error leaves it."""
         entries, closing, limits = self._entries, self.closing, self.limits
-        done = None
         try:
             result = action(self)
-            done = True
+            # No error has left the action: what is there now stays.
+            entries, closing, limits = self._entries, self.closing, self.limits
             return result
         finally:
-            if done is None:
-                self._entries, self.closing, self.limits = entries, closing, limits
+            self._entries, self.closing, self.limits = entries, closing, limits

@@ -60,7 +60,7 @@ def row_of(word):
 
 
 def take_sort(words, letters):
-    """Take the words of a sort."""
+    """Take the words of a sort, up to the end of the line."""
     targets = {}
     while words.ahead() != "ends":
         row = words.take(lambda word: is_row(letters, word) and row_of(word)[0] not in targets)
@@ -83,7 +83,7 @@ def take_word(words, letters, end):
 
 
 def take_test(words, letters):
-    """Take the words of a test."""
+    """Take the words of a test, up to the end of the line."""
     kind = words.take_one_of(["after", "same", "state"])
     beginning = words.take_one_of(BEGINNINGS)
     if kind == "after":

@@ -372,7 +372,8 @@ class RunTest(DeskCase):
                  "release x y": 3, "undo x": 2, "undo ": 2, "redo redo": 2, "decide": 2, "decide three": 2, "decide one": 3,
                  "decide one same new a b : ends": 7, "decide one same new a / b : ends x": 10, "follows": 2,
                  "follows x": 2, "follows one": 3, "follows one alike a a": 5, "follows one always no ": 5,
-                 "say\none x idle a": 1, "undo\n": 1, "follows one idle a\n": 4}
+                 "say\none x idle a": 1, "undo\n": 1, "follows one idle a\n": 4,
+                 "follows one idle a x": 5, "follows one kept a b ": 6, "follows one always no yes 1": 6}
         desk = build(("a", NO))
         desk.say("one", "b", IDLE)
         desk.undo()
