@@ -10,7 +10,7 @@ MOST_SENTENCES = 60
 
 def live_letters(closing):
     """The live letters, in order."""
-    return [letter for letter in closing.letters if closing.least(letter) == letter]
+    return list(closing.live)
 
 
 def all_tops(closing):
@@ -113,6 +113,9 @@ def allowed(closing, limits, top):
 def barred(closing, limits):
     """The tops at which no answer is allowed, in order."""
     require_limits(closing, limits)
+    # An answer that is in each limit is allowed at every top.
+    if in_common(limits) != ():
+        return ()
     return tuple([top for top in all_tops(closing) if allowed_at(closing, limits, top) == ()])
 
 

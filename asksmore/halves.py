@@ -1,7 +1,6 @@
 """Half sentences: the weakest single sentences that make a test fair."""
 
 from asksmore.allowed import barred
-from asksmore.closing import close
 from asksmore.errors import Impossible, TooMany
 from asksmore.letters import require_same
 from asksmore.sentences import Sentence
@@ -40,7 +39,7 @@ def helping(spec, test):
     """The sentences of the menu that make a test fair, each with the closing that it makes."""
     found = []
     for sentence in menu(spec.letters):
-        closing = close(spec.letters, [*spec.closing.told, sentence])
+        closing = spec.closing.followed(sentence)
         if not barred(closing, spec.limits) and decide(closing, spec.limits, test).fair:
             found.append((sentence, closing))
     return found

@@ -1,8 +1,9 @@
 """Sentences: what a specification says about states and about answers."""
 
 from asksmore.errors import BadAnswers, BadKind, BadLetter, SaysNothing, TooMany
-from asksmore.histories import History
+from asksmore.histories import CheckedRuns, History
 from asksmore.plain import is_short_word
+from asksmore.runs import joined
 
 KINDS = ("idle", "kept", "still", "over", "undone", "alike")
 LONE_KINDS = ("idle", "still")
@@ -55,6 +56,12 @@ def one_form(letters, kind, first, second):
     return kind, first, second
 
 
+def side_of(sentence, which):
+    """The left (0) or the right (1) side of a state sentence as a history."""
+    runs = sides(sentence.kind, sentence.first, sentence.second, 1)[which]
+    return History(sentence.letters, "new" if sentence.kind == "still" else "found", CheckedRuns(joined(runs)))
+
+
 class Sentence:
     """A state sentence: its two sides lead to the same state."""
 
@@ -69,20 +76,16 @@ class Sentence:
             raise SaysNothing()
         self.letters = letters
         self.kind, self.first, self.second = one_form(letters, kind, first, second)
-        beginning = "new" if kind == "still" else "found"
-        left, right = sides(self.kind, self.first, self.second, 1)
-        self._left = History(letters, beginning, left)
-        self._right = History(letters, beginning, right)
 
     @property
     def left(self):
         """The left side as a history."""
-        return self._left
+        return side_of(self, 0)
 
     @property
     def right(self):
         """The right side as a history."""
-        return self._right
+        return side_of(self, 1)
 
     def __eq__(self, other):
         return (isinstance(other, Sentence) and self.letters == other.letters and self.kind == other.kind

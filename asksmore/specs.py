@@ -2,8 +2,8 @@
 
 from asksmore.allowed import allowed, barred
 from asksmore.answerers import Answerer
-from asksmore.closing import MOST_SENTENCES, close
-from asksmore.errors import BadName, Known, TooMany, Unknown
+from asksmore.closing import close, require_few
+from asksmore.errors import BadName, Known, Unknown
 from asksmore.letters import require_same
 from asksmore.machines import Machine
 from asksmore.plain import is_short_word
@@ -15,12 +15,6 @@ def require_name(value):
     """Refuse what is not a name."""
     if not is_short_word(value):
         raise BadName(value)
-
-
-def require_few(many):
-    """Refuse more sentences than a specification may have."""
-    if many > MOST_SENTENCES:
-        raise TooMany("sentences", many, MOST_SENTENCES)
 
 
 def is_answering(value):
@@ -44,10 +38,13 @@ class Spec:
     """An ordered collection of named sentences about states and about answers."""
 
     def __init__(self, letters):
-        self.letters = letters
-        self.closing = close(letters, [])
-        self.limits = ()
-        self._entries = ()
+        if isinstance(letters, Spec):
+            # A copy begins with what the other one holds: nothing of that ever changes, and it is not looked at anew.
+            self.letters, self.closing, self.limits = letters.letters, letters.closing, letters.limits
+            self._entries = letters.entries
+        else:
+            self.letters, self.closing, self.limits = letters, close(letters, ()), ()
+            self._entries = ()
 
     @property
     def names(self):
@@ -78,7 +75,16 @@ class Spec:
             self.hold([(name, worth if name == at else item) for name, item in self._entries])
         else:
             require_few(len(self._entries) + 1)
-            self.hold([*self._entries, (at, worth)])
+            self.put_last(at, worth)
+
+    def put_last(self, name, item):
+        """Let an item stand at the end, under a new name."""
+        # The closing goes on from what is told already: a specification that is filled is not closed anew each time.
+        if isinstance(item, Sentence):
+            self.closing = self.closing.followed(item)
+        else:
+            self.limits = (*self.limits, item)
+        self._entries = (*self._entries, (name, item))
 
     def hold(self, entries):
         """Let these be the entries."""
@@ -103,10 +109,7 @@ class Spec:
 
     def copy(self):
         """Another specification with the same entries."""
-        other = Spec(self.letters)
-        other.closing = self.closing
-        other.hold(self._entries)
-        return other
+        return Spec(self)
 
     def selected(self, names):
         """Another specification with the entries of these names only."""

@@ -104,7 +104,7 @@ class Stands:
         forms = [struck(closing, History.spelled(closing.letters, "found", word)) for word in (self.one, self.other)]
         self.told = [("open", forms[0].word(), forms[1].word())]
         self.rows = []
-        live = [letter for letter in closing.letters if closing.least(letter) == letter]
+        live = closing.live
         place = {self.told[0]: 0}
         while len(self.rows) < len(self.told):
             row = {}

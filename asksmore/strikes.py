@@ -16,7 +16,7 @@ class Striking:
 
     def take_run(self, letter, count):
         """Strike the next run of the history behind what is struck already."""
-        row = self.closing.rule(letter)
+        row = self.closing.lone_rule(letter)
         if row is not None:
             self.steps.append((row, self.size, 1, count))
             letter = self.closing.least(letter)
@@ -27,7 +27,7 @@ class Striking:
 
     def folded(self, letter, count):
         """How many letters of a run of one live letter are left when it is struck alone."""
-        row = self.closing.rule(letter, letter)
+        row = self.closing.pair_rule(letter, letter)
         if row is None or count == 1:
             return count
         if self.closing.kind_of(row) == "kept":
@@ -42,7 +42,7 @@ class Striking:
         if not self.runs:
             return self.begun(letter, count)
         last, many = self.runs[-1]
-        row = self.closing.rule(last, letter)
+        row = self.closing.pair_rule(last, letter)
         if row is None:
             return self.appended(letter, count)
         kind = self.closing.kind_of(row)

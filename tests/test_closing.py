@@ -7,9 +7,10 @@ import unittest
 from asksmore.chains import is_rows
 from asksmore.closing import Closing, close
 from asksmore.errors import BadLetter, BadTold, NotLive, TooMany
+from asksmore.halves import menu
 from asksmore.letters import Letters
 from asksmore.sentences import Limit, Sentence
-from tests.own import STRANGE, Case, every_sentence, own_form, random_told, walked
+from tests.own import SIDES, STRANGE, Case, every_sentence, own_form, random_told, sides, walked
 
 AB = Letters(["a", "b"])
 ABC = Letters(["a", "b", "c"])
@@ -134,6 +135,66 @@ class FormTest(Case):
             self.assertFalse(any(s.kind == "over" and s.first == s.second for s in form))
 
 
+def struck_by(rules, beginning, word):
+    """A word struck by rules, from left sides to right sides, in the order of its places."""
+    for place in range(len(word)):
+        for size in (1, 2):
+            left = word[place:place + size]
+            if left in rules["found"]:
+                return struck_by(rules, beginning, word[:place] + rules["found"][left] + word[place + size:])
+    if beginning == "new" and word[:1] in rules["new"]:
+        return struck_by(rules, beginning, word[1:])
+    return word
+
+
+class TogetherTest(Case):
+    """No order of using the sentences of the form makes a difference, and each told sentence holds by them."""
+
+    def check(self, letters, given):
+        closing = close(letters, given)
+        rules = {"found": {}, "new": {}}
+        for sentence in closing.form():
+            left, right = sides(sentence)
+            rules[sentence.left.beginning][tuple(left)] = tuple(right)
+        for sentence in given:
+            beginning = sentence.left.beginning
+            ends = [struck_by(rules, beginning, tuple(side)) for side in sides(sentence)]
+            self.assertEqual(ends[0], ends[1])
+        for beginning in ("new", "found"):
+            for word in itertools.product(letters, repeat=3):
+                self.assertEqual(len({struck_by(rules, beginning, other) for other in self.changed(rules, word)}), 1)
+        for y, z in itertools.product(letters, letters):
+            if (y,) in rules["new"] and (y, z) in rules["found"]:
+                self.assertEqual(struck_by(rules, "new", (z,)), struck_by(rules, "new", rules["found"][y, z]))
+
+    def changed(self, rules, word):
+        """A word, and what one change by a rule that holds everywhere makes of it."""
+        found = [word]
+        for place in range(len(word)):
+            for size in (1, 2):
+                right = rules["found"].get(word[place:place + size])
+                if right is not None:
+                    found.append(word[:place] + right + word[place + size:])
+        return found
+
+    def test_three_letters(self):
+        kinds = [sentence for sentence in menu(ABC) if sentence.kind in ("kept", "over", "undone")]
+        for given in itertools.combinations(kinds, 3):
+            self.check(ABC, list(given))
+
+    def test_more_letters_and_all_kinds(self):
+        source = random.Random(10)
+        for turn in range(300):
+            letters = source.choice([AB, ABC, ABCD, Letters(list("abcde"))])
+            kinds = [("kept", "over", "undone"), tuple(SIDES)][turn % 2]
+            self.check(letters, random_told(source, letters, source.randint(2, 7), kinds))
+
+    def test_what_two_letters_undo_on_both_sides(self):
+        # Here a and c are one because b undoes a and c undoes b; that a c is c anyway must not hide it.
+        closing = close(ABC, told(ABC, "over a c", "undone a b", "undone b c"))
+        self.assertEqual(texts(closing), ["idle a", "idle b", "idle c"])
+
+
 class AskedTest(Case):
     def test_agrees_with_the_form(self):
         source = random.Random(3)
@@ -245,6 +306,22 @@ class RowsTest(Case):
                          ["undone a b", "undone b c", "undone a b", "alike c a"])
         self.assertEqual([steps for _, steps in rows[:4]], [(), (), (), ()])
         self.check(ABC, given)
+
+    def test_one_more_sentence(self):
+        source = random.Random(60)
+        for _ in range(60):
+            letters = source.choice([AB, ABC, ABCD, TWELVE])
+            given = random_told(source, letters, source.randint(1, 16))
+            closing = close(letters, given[:-1])
+            rows, form = closing.rows, closing.form()
+            other = random_told(source, letters, 1)[0]
+            for sentence in (given[-1], other, given[-1]):
+                after, wanted = closing.followed(sentence), close(letters, given[:-1] + [sentence])
+                self.assertEqual((after.told, after.rows, after.lengths, after.live, after.form()),
+                                 (wanted.told, wanted.rows, wanted.lengths, wanted.live, wanted.form()))
+            self.assertEqual((closing.rows, closing.form(), closing.told), (rows, form, tuple(given[:-1])))
+        full = close(AB, [Sentence(AB, "idle", "a")] * 60)
+        self.fails(TooMany, lambda: full.followed(given[0]), "sentences", 61, 60)
 
     def test_equal_calls_give_equal_rows(self):
         source = random.Random(7)

@@ -1,10 +1,14 @@
+import itertools
 import random
 import unittest
+from unittest import mock
 
 from asksmore.allowed import allowed, barred
 from asksmore.answerers import Answerer
 from asksmore.asked import After, Same
+from asksmore.chains import is_rows
 from asksmore.closing import close
+from asksmore.completing import Completion
 from asksmore.errors import BadName, BadTop, Known, OtherLetters, TooMany, Unknown
 from asksmore.letters import Letters
 from asksmore.machines import Machine
@@ -139,6 +143,127 @@ class EntriesTest(Case):
         spec["a"] = STILL
         self.assertEqual((names, entries, limits), (("a",), (("a", IDLE),), ()))
         self.assertEqual(closing.told, (IDLE,))
+
+
+def overwriting(words):
+    """Letters, and for each pair of them the sentence that the second one overwrites the first one."""
+    letters = Letters(list(words))
+    return letters, [Sentence(letters, "kept" if x == y else "over", x, y) for x in letters for y in letters]
+
+
+def overwritten(told):
+    """The closed form of such sentences: what is overwritten twice is overwritten by the last one, too."""
+    pairs = {(sentence.first, sentence.second) for sentence in told}
+    while True:
+        more = {(x, z) for (x, y), (other, z) in itertools.product(pairs, pairs) if y == other} - pairs
+        if not more:
+            return [f"kept {x} {y}" if x == y else f"over {x} {y}" for x, y in sorted(pairs)]
+        pairs |= more
+
+
+class FillingTest(Case):
+    """Specifications that are filled sentence by sentence."""
+
+    def check(self, spec, entries):
+        """What is shown is what one closing of all sentences in their order shows."""
+        self.assertEqual(shown(spec), wanted(spec.letters, entries))
+        told = [item for _, item in entries if isinstance(item, Sentence)]
+        self.assertEqual(spec.closing.rows, close(spec.letters, told).rows)
+        self.assertTrue(is_rows(spec.letters, told, spec.closing.rows))
+
+    def test_one_overwrites_the_other(self):
+        letters, sentences = overwriting("abcdefg")
+        spec, entries = Spec(letters), []
+        for at, sentence in enumerate(sentences):
+            spec[f"n{at}"] = sentence
+            entries.append((f"n{at}", sentence))
+            self.check(spec, entries)
+            self.assertEqual([str(part) for part in spec.closing.form()], overwritten(sentences[:at + 1]))
+        self.assertEqual(spec.closing.form(), tuple(sentences))
+        spec.drop("n7")
+        self.check(spec, entries[:7] + entries[8:])
+        spec["n7"] = sentences[7]
+        self.check(spec, entries[:7] + entries[8:] + entries[7:8])
+        spec["n48"] = Sentence(letters, "alike", "a", "g")
+        self.check(spec, entries[:7] + entries[8:48] + [("n48", spec["n48"])] + entries[7:8])
+
+    def test_in_any_order_and_of_any_kinds(self):
+        source = random.Random(28)
+        for turn in range(30):
+            letters, told = overwriting("abcdefgh"[:source.randint(2, 8)])
+            if turn % 2:
+                told = random_told(source, letters, source.randint(1, 40))
+            told = source.sample(told, min(len(told), 60))
+            spec, entries = Spec(letters), []
+            for at, sentence in enumerate(told):
+                spec[f"n{at}"] = sentence
+                entries.append((f"n{at}", sentence))
+                self.check(spec, entries)
+
+    def test_changes_on_the_way(self):
+        source = random.Random(15)
+        for _ in range(12):
+            letters, told = overwriting("abcd")
+            told += random_told(source, letters, 20)
+            source.shuffle(told)
+            spec, entries, aside = Spec(letters), {}, []
+            for at, sentence in enumerate(told):
+                spec[f"n{at}"] = entries[f"n{at}"] = sentence
+                name = source.choice(list(entries))
+                if at % 4 == 1:
+                    spec[name] = entries[name] = source.choice(told)
+                elif at % 4 == 2:
+                    del entries[name]
+                    spec.drop(name)
+                elif at % 4 == 3:
+                    aside.append((spec, dict(entries)))
+                    spec = spec.copy()
+                self.fail_in_a_trial(spec, told[:3])
+                self.check(spec, list(entries.items()))
+            for other, kept in aside:
+                self.check(other, list(kept.items()))
+
+    def fail_in_a_trial(self, spec, told):
+        """A trial that tells more, sees that it counts, and fails."""
+        def action(handed):
+            """Tell more and fail."""
+            for at, sentence in enumerate(told):
+                handed[f"t{at}"] = sentence
+                self.check(handed, handed.entries)
+                self.assertEqual(handed.closing.told[-1], sentence)
+            raise Boom()
+        for call in (spec.trial, spec.attempt):
+            with self.assertRaises(Boom):
+                call(action)
+
+    def test_two_go_on_from_one(self):
+        letters, told = overwriting("abc")
+        one = Spec(letters)
+        one["n"] = told[1]
+        other = one.copy()
+        one["m"] = told[5]
+        other["m"] = Sentence(letters, "idle", "b")
+        one["k"], other["k"] = told[3], told[8]
+        self.check(one, [("n", told[1]), ("m", told[5]), ("k", told[3])])
+        self.check(other, [("n", told[1]), ("m", Sentence(letters, "idle", "b")), ("k", told[8])])
+
+    def test_each_sentence_is_taken_in_once(self):
+        letters, told = overwriting("abcdefg")
+        spec, taken = Spec(letters), []
+        take = Completion.take
+
+        def counted(completion, sentence):
+            """Take in a sentence and count it."""
+            taken.append(sentence)
+            take(completion, sentence)
+        with mock.patch.object(Completion, "take", counted):
+            for at, sentence in enumerate(told):
+                spec[f"n{at}"] = sentence
+            spec["limit"] = Limit(letters, "always", ["no", "yes"])
+            spec["limit"] = Limit(letters, "always", ["no"])
+            spec.copy().drop("limit")
+            spec.trial(lambda handed: handed.drop("limit"))
+        self.assertEqual(taken, told)
 
 
 class CopiesTest(Case):
