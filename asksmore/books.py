@@ -92,13 +92,24 @@ def seen_runs(deeds, is_named, name, runs):
     return found
 
 
+class CheckedDeeds:
+    """The deeds of a book that is there already, and specifications that another book of its asks is to hold."""
+
+    def __init__(self, deeds, specs):
+        self.deeds = deeds
+        self.specs = specs
+
+
 class Book:
     """The specifications of the asks of one object."""
 
     def __init__(self, deeds, asks):
-        self.deeds = told_deeds(deeds)
-        self.asks = told_asks(asks)
-        self._specs = {word: Spec(letters_seen(self.deeds, is_named)) for word, is_named in self.asks}
+        if isinstance(deeds, CheckedDeeds):
+            self.deeds, self.asks, self._specs = deeds.deeds, asks, deeds.specs
+        else:
+            self.deeds = told_deeds(deeds)
+            self.asks = told_asks(asks)
+            self._specs = {word: Spec(letters_seen(self.deeds, is_named)) for word, is_named in self.asks}
 
     def __iter__(self):
         raise TypeError("a book is not iterated over")
@@ -119,9 +130,12 @@ class Book:
 
     def copy(self):
         """Another book with the same entries."""
-        other = Book(self.deeds, self.asks)
-        other._specs = {word: self._specs[word].copy() for word in self._specs}
-        return other
+        return Book(CheckedDeeds(self.deeds, {word: self._specs[word].copy() for word in self._specs}), self.asks)
+
+    def beside(self, ask, spec):
+        """Another book that holds this specification for an ask, and shares those of the other asks with this one."""
+        specs = {word: spec if word == ask else self._specs[word] for word in self._specs}
+        return Book(CheckedDeeds(self.deeds, specs), self.asks)
 
     def is_possible(self):
         """Whether the specification of each ask is possible."""

@@ -9,12 +9,6 @@ from asksmore.texts import take_item, take_test
 MOST_GUARDS = 12
 
 
-def take_ask(words, book):
-    """Take the word of an ask; this word and its specification."""
-    ask = words.take_one_of([word for word, _ in book.asks])
-    return ask, book[ask]
-
-
 def take_name(words):
     """Take any word that is not empty."""
     return words.take(lambda word: word != "")
@@ -22,7 +16,7 @@ def take_name(words):
 
 def run_say(desk, words):
     """Say what the words tell."""
-    ask, spec = take_ask(words, desk.book())
+    ask, spec = desk.take_ask(words)
     name = take_name(words)
     item = take_item(words, spec.letters)
     words.finish()
@@ -32,7 +26,7 @@ def run_say(desk, words):
 
 def run_drop(desk, words):
     """Drop what the words tell."""
-    ask, _ = take_ask(words, desk.book())
+    ask, _ = desk.take_ask(words)
     name = take_name(words)
     words.finish()
     desk.drop(ask, name)
@@ -42,7 +36,7 @@ def run_drop(desk, words):
 def run_guard(desk, words):
     """Add the guard that the words tell."""
     name = take_name(words)
-    ask, spec = take_ask(words, desk.book())
+    ask, spec = desk.take_ask(words)
     test = take_test(words, spec.letters)
     desk.guard(name, ask, test)
     return "done"
@@ -72,14 +66,14 @@ def run_redo(desk, words):
 
 def run_decide(desk, words):
     """Whether the test that the words tell is fair."""
-    _, spec = take_ask(words, desk.book())
+    _, spec = desk.take_ask(words)
     test = take_test(words, spec.letters)
     return "fair" if spec.decide(test).fair else "overasked"
 
 
 def run_follows(desk, words):
     """Whether the sentence that the words tell follows."""
-    _, spec = take_ask(words, desk.book())
+    _, spec = desk.take_ask(words)
     item = take_item(words, spec.letters)
     words.finish()
     return "yes" if holds(spec, item) else "no"
@@ -95,9 +89,12 @@ class Desk:
     def __init__(self, book):
         if not book.is_possible():
             raise Impossible()
-        # A book that is held here is never changed any more, so what was may be kept and come back.
+        # A book that is held here is never changed any more, so what was may be kept and come back, and two such books
+        # share the specifications that a change has left as they were.
         self._book = book.copy()
         self._guards = ()
+        # What can be taken back and done again: a book, its guards and what lies beyond them, or nothing. So a change
+        # takes no longer the more changes there were.
         self._past = ()
         self._future = ()
 
@@ -112,25 +109,24 @@ class Desk:
 
     def say(self, ask, name, item):
         """Let an item stand under a name."""
-        changed = self._book.copy()
-        changed[ask][name] = item
-        self.settle(changed, ask, name)
+        spec = self._book[ask].copy()
+        spec[name] = item
+        self.settle(spec, ask, name)
 
     def drop(self, ask, name):
         """Take a name out."""
-        changed = self._book.copy()
-        changed[ask].drop(name)
-        self.settle(changed, ask, name)
+        spec = self._book[ask].copy()
+        spec.drop(name)
+        self.settle(spec, ask, name)
 
-    def settle(self, changed, ask, name):
-        """Take over a book with a change of one ask, unless it must be refused."""
-        spec = changed[ask]
+    def settle(self, spec, ask, name):
+        """Let an ask have a changed specification, unless it must be refused."""
         if not spec.is_possible():
             raise Refused(ask, name) from Impossible()
         for guard, other, test in self._guards:
             if other == ask and not spec.decide(test).fair:
                 raise Refused(ask, name) from Overasked(guard)
-        self.go_on(changed, self._guards)
+        self.go_on(self._book.beside(ask, spec), self._guards)
 
     def guard(self, name, ask, test):
         """Add a guard at the end."""
@@ -156,7 +152,7 @@ class Desk:
 
     def go_on(self, book, guards):
         """Make a change that may be taken back; what was taken back before is gone."""
-        self._past = (*self._past, (self._book, self._guards))
+        self._past = (self._book, self._guards, self._past)
         self._future = ()
         self._book, self._guards = book, guards
 
@@ -164,17 +160,20 @@ class Desk:
         """Take back the last change."""
         if not self._past:
             raise NothingLeft()
-        self._future = (*self._future, (self._book, self._guards))
-        self._book, self._guards = self._past[-1]
-        self._past = self._past[:-1]
+        self._future = (self._book, self._guards, self._future)
+        self._book, self._guards, self._past = self._past
 
     def redo(self):
         """Do again the change that was taken back last."""
         if not self._future:
             raise NothingLeft()
-        self._past = (*self._past, (self._book, self._guards))
-        self._book, self._guards = self._future[-1]
-        self._future = self._future[:-1]
+        self._past = (self._book, self._guards, self._past)
+        self._book, self._guards, self._future = self._future
+
+    def take_ask(self, words):
+        """Take the word of an ask; this word and its present specification, which is only to be looked at."""
+        ask = words.take_one_of([word for word, _ in self._book.asks])
+        return ask, self._book[ask]
 
     def run(self, line):
         """Do what a line says, and say what comes of it."""

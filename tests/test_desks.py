@@ -1,8 +1,10 @@
 import random
 import unittest
+from unittest import mock
 
 from asksmore.asked import After, Same, State
 from asksmore.books import Book
+from asksmore.completing import Completion
 from asksmore.desks import Desk
 from asksmore.editions import holds
 from asksmore.errors import (AsksError, BadName, BadText, Impossible, Known, NothingLeft, OtherLetters, Overasked,
@@ -317,6 +319,114 @@ class UndoTest(DeskCase):
         desk.book()["one"]["x"] = NO
         desk.redo()
         self.assertEqual(desk.book()["one"].entries, (("x", IDLE),))
+
+
+def named_book():
+    """A book of named deeds and asks; in each ask each letter is kept behind itself."""
+    book = Book([(f"d{at}", True) for at in range(6)], [(f"a{at}", True) for at in range(8)])
+    for ask, _ in book.asks:
+        letters = book[ask].letters
+        for at, x in enumerate(letters):
+            book[ask][f"k{at}"] = Sentence(letters, "kept", x, x)
+    return book
+
+
+def entries_of(book):
+    """The names, entries and closings of all asks."""
+    specs = [book[ask] for ask, _ in book.asks]
+    return [(spec.names, spec.entries, spec.limits, spec.closing.told, spec.closing.form()) for spec in specs]
+
+
+class ManyChangesTest(DeskCase):
+    def check(self, desk, hand):
+        """The book is as the one that was changed by hand, and its changes are no changes of the desk."""
+        book = desk.book()
+        self.assertEqual(entries_of(book), entries_of(hand))
+        letters = book["a0"].letters
+        book["a0"]["n"] = Limit(letters, "always", ["other"])
+        book["a0"].drop("k3")
+        book["a5"]["k0"] = Sentence(letters, "idle", "d0")
+        self.assertEqual(entries_of(desk.book()), entries_of(hand))
+
+    def test_back_and_forth(self):
+        desk, hand = Desk(named_book()), named_book()
+        letters = hand["a0"].letters
+        limits = [Limit(letters, "fresh", [f"x{at}"]) for at in range(110)]
+        for limit in limits:
+            desk.say("a0", "n", limit)
+            hand["a0"]["n"] = limit
+            self.check(desk, hand)
+        for limit in [None, *limits[:-1]][::-1]:
+            desk.undo()
+            if limit is None:
+                hand["a0"].drop("n")
+            else:
+                hand["a0"]["n"] = limit
+            self.check(desk, hand)
+        self.fails(NothingLeft, desk.undo)
+        for limit in limits:
+            desk.redo()
+            hand["a0"]["n"] = limit
+            self.check(desk, hand)
+        self.fails(NothingLeft, desk.redo)
+
+    def test_a_book_that_was_handed_out(self):
+        desk = Desk(named_book())
+        letters = desk.book()["a0"].letters
+        desk.say("a0", "n", Limit(letters, "fresh", ["x"]))
+        desk.say("a1", "n", Limit(letters, "always", ["x", "y"]))
+        desk.drop("a1", "k0")
+        desk.undo()
+        before = history_of(desk)
+        for ask, _ in desk.book().asks:
+            for item in (None, Sentence(letters, "idle", "d0"), Limit(letters, "fresh", ["zz"])):
+                book = desk.book()
+                if item is None:
+                    book[ask].drop("k1")
+                else:
+                    book[ask]["k1"] = book[ask]["n"] = item
+                self.assertEqual(history_of(desk), before)
+        desk.redo()
+        self.assertNotIn("k0", desk.book()["a1"].names)
+
+    def test_asks_of_all_kinds_of_changes(self):
+        source = random.Random(16)
+        for _ in range(4):
+            desk, hand = Desk(named_book()), named_book()
+            letters, past = hand["a0"].letters, []
+            for _ in range(40):
+                ask, name = f"a{source.randrange(8)}", source.choice(["k0", "k1", "n", "m"])
+                past.append(hand.copy())
+                if name in hand[ask].names and source.random() < 0.4:
+                    desk.drop(ask, name)
+                    hand[ask].drop(name)
+                else:
+                    # An answer that is in all of them keeps the book possible.
+                    items = [Limit(letters, "always", ["no", source.choice("abc")])] + random_told(source, letters, 2)
+                    item = source.choice(items)
+                    desk.say(ask, name, item)
+                    hand[ask][name] = item
+                self.check(desk, hand)
+            states = [entries_of(book) for book in past] + [entries_of(hand)]
+            for state in states[-2::-1]:
+                desk.undo()
+                self.assertEqual(entries_of(desk.book()), state)
+            for state in states[1:]:
+                desk.redo()
+                self.assertEqual(entries_of(desk.book()), state)
+
+    def test_nothing_is_closed_anew_where_limits_change(self):
+        desk = Desk(named_book())
+        letters = desk.book()["a0"].letters
+        with mock.patch.object(Completion, "take", side_effect=AssertionError):
+            for answer in ("x", "y", "z"):
+                desk.say("a0", "n", Limit(letters, "fresh", [answer]))
+                desk.run(f"say a1 n always {answer}")
+                desk.book()
+            for action in (desk.undo, desk.redo):
+                action()
+                desk.book()
+            desk.drop("a0", "n")
 
 
 class RunTest(DeskCase):
